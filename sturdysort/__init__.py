@@ -1,0 +1,1 @@
+"""Rows sorted by neighbours' deeds, any of which may fail."""

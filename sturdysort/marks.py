@@ -1,0 +1,45 @@
+"""Cuts a program's text into its marks: words, numbers and signs."""
+
+LETTERS = "abcdefghijklmnopqrstuvwxyz"
+FIGURES = "0123456789"
+SIGNS = "{}(),+-*"
+BLANKS = " \n"
+MOST_LETTERS = 8
+MOST_FIGURES = 2
+
+
+def marks_of(text):
+    """The list of (kind, content, place) of the text's marks, with one of the kind end behind all.
+
+    What is no word, number or sign is a mark of the kind odd, which can stand nowhere.
+    """
+    marks = []
+    at = 0
+    while at < len(text):
+        later = place_behind(text, at)
+        if text[at] not in BLANKS:
+            content = text[at:later]
+            marks.append((kind_of(content), content, at))
+        at = later
+    marks.append(("end", "", len(text)))
+    return marks
+
+
+def place_behind(text, at):
+    """The place behind the mark, or the blank, that begins at a place."""
+    for alphabet in (LETTERS, FIGURES):
+        if text[at] in alphabet:
+            while at < len(text) and text[at] in alphabet:
+                at += 1
+            return at
+    return at + 1
+
+
+def kind_of(content):
+    """The kind of a mark that isn't the end."""
+    if content[0] in LETTERS:
+        return "word" if len(content) <= MOST_LETTERS else "odd"
+    if content[0] in FIGURES:
+        needless = content[0] == "0" and len(content) > 1
+        return "odd" if needless or len(content) > MOST_FIGURES else "number"
+    return "sign" if content in SIGNS else "odd"

@@ -1,0 +1,73 @@
+"""Every example that the document shows, word for word, for the modules that stand."""
+
+import doctest
+import unittest
+
+EXAMPLES = {
+    "rows": """
+>>> from sturdysort.rows import can_come, no_less_sorted, out_pairs, run, stretch, turned, way
+>>> [turned(4), run((3, 2, 1, 0), (0, 1, 2, 0), ()), run((3, 2, 1, 0), (0, 1, 2, 0), (1,)), out_pairs((2, 0, 1))]
+[(3, 2, 1, 0), (1, 2, 0, 3), (2, 3, 0, 1), ((2, 0), (2, 1))]
+>>> [can_come((2, 1, 0), (1, 2, 0)), can_come((1, 2, 0), (2, 0, 1)), way((2, 1, 0), (0, 1, 2))]
+[True, False, (0, 1, 0)]
+>>> [no_less_sorted((1, 2, 0), (2, 0, 1)), no_less_sorted((0, 2, 1), (2, 0, 1)), stretch((2, 0, 1), (0, 2, 1))]
+[False, True, ((0, 2, 1), (2, 0, 1))]
+""",
+    "printing": """
+>>> from sturdysort.printing import cards_of, printed
+>>> printed("cards 4 part go(k){sort k}for i up 0 to (cards)-2{do go(i*(1+0))}")
+'cards 4 part go(k) { sort k } for i up 0 to cards - 2 { do go(i * (1 + 0)) }'
+""",
+    "compiling": """
+>>> from sturdysort.compiling import rounds, word_of
+>>> word_of("cards 4 for t up 0 to 2 { for k up 0 to 2 - t { sort k } }")
+(0, 1, 2, 0, 1, 0)
+>>> word_of("cards 5 beside { sort 0 sort 1 } { sort 3 } back { sort 0 sort 1 } mirror { sort 0 }")
+(0, 3, 1, 1, 0, 3)
+>>> rounds(4, (0, 1, 2, 0, 1, 0))
+[(0,), (1,), (2, 3), (4,), (5,)]
+""",
+    "words": """
+>>> from sturdysort.words import all_words, are_alike, count_words, end, lacking, least_word, scattered, sorts_all
+>>> [end(3, (0, 1)), are_alike(3, (0, 1, 0), (1, 0, 1)), sorts_all(3, (1, 0, 1)), sorts_all(3, (0, 1))]
+[(1, 0, 2), True, True, False]
+>>> [least_word(3, (1, 0, 1, 1)), lacking(3, (0, 1)), count_words((0, 1, 2, 3)), all_words((0, 1, 2))]
+[(0, 1, 0), (0,), 16, ((0, 1, 0), (1, 0, 1))]
+>>> [scattered(3, (1, 1, 0, 1), (0, 1, 2)), scattered(3, (0, 1, 1), (0, 1, 2)), scattered(3, (0, 1, 1), (1, 2, 0))]
+[(0, 2, 3), None, (0,)]
+""",
+    "lots": """
+>>> from sturdysort.lots import count_lots, fail_counts, greatest_lots, idle, is_harmless, lot_at, number_of, vital
+>>> word, goal = (0, 1, 0, 1, 0), (0, 1, 2)
+>>> greatest_lots(3, word, goal)
+((3, 4), (2, 3), (1, 2), (0, 4), (0, 1))
+>>> [count_lots(3, word, goal), lot_at(3, word, goal, 2), number_of(3, word, goal, (0, 4)), fail_counts(3, word, goal)]
+[5, (1, 2), 3, (2, 2, 2, 2, 2)]
+>>> [is_harmless(3, word, goal, (2,)), is_harmless(3, word, goal, (0, 2)), idle(3, (0, 0), (1, 2, 0)), vital(3, (0, 1, 0), goal)]
+[True, False, (), (0, 1, 2)]
+""",
+    "strings": r"""
+>>> from sturdysort.strings import drawn, exchange, falls, least_steps, meets, rises, way_of_lots
+>>> word, goal = (0, 1, 0, 1, 0), (0, 1, 2)
+>>> [meets(3, word, (0, 1)), exchange(3, word, goal, (0, 1), 1), rises(3, word, goal, (0, 1)), falls(3, word, goal, (3, 4))]
+[((2, 1), (1, 0), (2, 1), (2, 0), (1, 0)), ((0, 4), 4), (0, 1), (3, 4)]
+>>> [least_steps(3, word, goal, (3, 4), (0, 1)), way_of_lots(3, word, goal, (3, 4), (0, 1))]
+[2, ((3, 4), (0, 4), (0, 1))]
+>>> drawn(3, (0, 1, 0), (1,))
+'2   1   1   2\n  x       x\n1   2   2   1\n      =\n0   0   0   0\n'
+""",
+}
+
+
+class Examples(unittest.TestCase):
+    def test_examples(self):
+        for name, text in EXAMPLES.items():
+            with self.subTest(name):
+                example = doctest.DocTestParser().get_doctest(text, {}, name, None, 0)
+                told = []
+                doctest.DocTestRunner(verbose=False).run(example, out=told.append)
+                self.assertEqual("".join(told), "")
+
+
+if __name__ == "__main__":
+    unittest.main()
