@@ -49,7 +49,7 @@ def statement_text(statement):
         name, sums = statement[1:]
         listed = ", ".join([sum_text(tree, 0) for tree in sums])
         return f"do {name}({listed})"
-    return " ".join([key, *[block_text(block) for block in statement[1:]]])
+    return " ".join([key, *[block_text(one) for one in statement[1:]]])
 
 
 def sum_text(tree, least):

@@ -1,0 +1,34 @@
+"""The interface: names, arguments, and the file in which each of them is defined."""
+
+import importlib
+import inspect
+import unittest
+
+FUNCTIONS = {
+    "rows": ["turned(n)", "in_order(n)", "run(row, word, lot)", "out_pairs(row)", "can_come(row, other)",
+             "no_less_sorted(row, other)", "way(row, other)", "stretch(row, other)"],
+    "printing": ["check(text)", "printed(text)", "cards_of(text)"],
+    "compiling": ["word_of(text)", "rounds(n, word)"],
+    "words": ["end(n, word)", "are_alike(n, one, other)", "sorts_all(n, word)", "least_word(n, word)",
+              "lacking(n, word)", "count_words(row)", "all_words(row)", "scattered(n, word, goal)"],
+    "lots": ["is_harmless(n, word, goal, lot)", "count_lots(n, word, goal)", "number_of(n, word, goal, lot)",
+             "greatest_lots(n, word, goal)", "lot_at(n, word, goal, number)", "fail_counts(n, word, goal)",
+             "idle(n, word, goal)", "vital(n, word, goal)"],
+    "strings": ["meets(n, word, lot)", "exchange(n, word, goal, lot, place)", "rises(n, word, goal, lot)",
+                "falls(n, word, goal, lot)", "least_steps(n, word, goal, lot, other)",
+                "way_of_lots(n, word, goal, lot, other)", "drawn(n, word, lot)"],
+}
+
+
+class Interface(unittest.TestCase):
+    def test_functions(self):
+        for name, functions in FUNCTIONS.items():
+            module = importlib.import_module(f"sturdysort.{name}")
+            for told in functions:
+                function = getattr(module, told.split("(")[0])
+                self.assertEqual(f"{function.__name__}{inspect.signature(function)}", told)
+                self.assertEqual(function.__module__, f"sturdysort.{name}")
+
+
+if __name__ == "__main__":
+    unittest.main()
