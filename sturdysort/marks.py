@@ -2,7 +2,6 @@
 
 LETTERS = "abcdefghijklmnopqrstuvwxyz"
 FIGURES = "0123456789"
-SIGNS = "{}(),+-*"
 BLANKS = " \n"
 MOST_LETTERS = 8
 MOST_FIGURES = 2
@@ -11,7 +10,7 @@ MOST_FIGURES = 2
 def marks_of(text):
     """The list of (kind, content, place) of the text's marks, with one of the kind end behind all.
 
-    What is no word, number or sign is a mark of the kind odd, which can stand nowhere.
+    The kinds are word, number, end, and other for signs and all that can stand nowhere.
     """
     marks = []
     at = 0
@@ -37,9 +36,8 @@ def place_behind(text, at):
 
 def kind_of(content):
     """The kind of a mark that isn't the end."""
-    if content[0] in LETTERS:
-        return "word" if len(content) <= MOST_LETTERS else "odd"
-    if content[0] in FIGURES:
-        needless = content[0] == "0" and len(content) > 1
-        return "odd" if needless or len(content) > MOST_FIGURES else "number"
-    return "sign" if content in SIGNS else "odd"
+    if content[0] in LETTERS and len(content) <= MOST_LETTERS:
+        return "word"
+    if content[0] in FIGURES and len(content) <= MOST_FIGURES and (content[0] != "0" or content == "0"):
+        return "number"
+    return "other"

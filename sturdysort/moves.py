@@ -54,13 +54,10 @@ def places_of(row):
 
 
 def steps_to(row, goal):
-    """The ascending list of the deeds that begin a shortest word from the row to the goal.
-
-    The goal is one that can come of the row.
-    """
+    """The ascending list of the deeds that begin a shortest word from the row to a goal that can come of it."""
     places = places_of(goal)
-    return [k for k in range(len(row) - 1)
-            if is_out_of_order(row, k) and places[row[k]] > places[row[k + 1]]]
+    # Two cards in order never change, so those that must are out of order in the row.
+    return [deed for deed in range(len(row) - 1) if places[row[deed]] > places[row[deed + 1]]]
 
 
 def length_to(goal):

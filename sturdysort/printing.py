@@ -41,18 +41,18 @@ def statement_text(statement):
     """The text of a statement."""
     key = statement[0]
     if key == "sort":
-        return f"sort {sum_text(statement[1], 0)}"
+        return f"sort {sum_text(statement[1])}"
     if key == "for":
         name, turn, first, last, block = statement[1:]
-        return f"for {name} {turn} {sum_text(first, 0)} to {sum_text(last, 0)} {block_text(block)}"
+        return f"for {name} {turn} {sum_text(first)} to {sum_text(last)} {block_text(block)}"
     if key == "do":
         name, sums = statement[1:]
-        listed = ", ".join([sum_text(tree, 0) for tree in sums])
+        listed = ", ".join([sum_text(tree) for tree in sums])
         return f"do {name}({listed})"
     return " ".join([key, *[block_text(one) for one in statement[1:]]])
 
 
-def sum_text(tree, least):
+def sum_text(tree, least=0):
     """The text of an E, in brackets if it holds its parts together less tightly than least."""
     key = tree[0]
     tightness = TIGHTNESS[key]

@@ -110,7 +110,7 @@ class Reader:
         names = []
         if self.content() != ")":
             names.append(self.take_name())
-        while names and self.content() == ",":
+        while self.content() == ",":
             self.take()
             names.append(self.take_name())
         self.expect(")")
@@ -162,7 +162,7 @@ class Reader:
         sums = []
         if self.content() != ")":
             sums.append(self.take_whole_sum())
-        while sums and self.content() == ",":
+        while self.content() == ",":
             self.take()
             sums.append(self.take_whole_sum())
         self.expect(")")

@@ -2,7 +2,7 @@
 
 from sturdysort.errors import TooGreat
 
-MOST = 10 ** 6
+MOST = 1000000
 
 
 def value_of(tree, n, names):

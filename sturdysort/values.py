@@ -19,9 +19,9 @@ def is_from_to(value, low, high):
 
 def is_row(value, n):
     """Whether the value is a row of n cards."""
-    if not isinstance(value, tuple) or len(value) != n:
+    if not isinstance(value, tuple) or not all([is_integer(card) for card in value]):
         return False
-    return all([is_from_to(card, 0, n - 1) for card in value]) and sorted(value) == list(range(n))
+    return sorted(value) == list(range(n))
 
 
 def is_word(value, n):

@@ -1,8 +1,7 @@
 """What words do to every row: their ends, and the shortest words that do the same."""
 
 from sturdysort.errors import TooMany
-from sturdysort.moves import end_of, is_as_sorted, is_out_of_order, length_to, places_of, sorted_row
-from sturdysort.moves import steps_to, swapped, turned_row
+from sturdysort.moves import end_of, is_out_of_order, length_to, sorted_row, steps_to, swapped, turned_row
 from sturdysort.rows import way
 from sturdysort.values import check_cards_and_word, check_goal, check_row, check_word
 
@@ -72,21 +71,11 @@ def scattered(n, word, goal):
     """The least tuple of places whose deeds are a shortest word that leads the turned row to the goal."""
     check_cards_and_word(n, word)
     check_goal(n, goal)
-    if not is_as_sorted(end_of(n, word), goal):
-        return None
     row = turned_row(n)
     places = []
     for place, deed in enumerate(word):
-        if deed in steps_to(row, goal) and lies_scattered(swapped(row, deed), word[place + 1:], goal):
+        # No need to look ahead: if a later deed can begin the way that is left, so can this one.
+        if deed in steps_to(row, goal):
             places.append(place)
             row = swapped(row, deed)
-    return tuple(places)
-
-
-def lies_scattered(row, word, goal):
-    """Whether a shortest word that leads the row to a goal that can come of it lies scattered in the word."""
-    n = len(row)
-    places = places_of(row)
-    # The same words lead the turned row to this one, and for the turned row the word's end tells.
-    shifted = tuple([n - 1 - places[card] for card in goal])
-    return is_as_sorted(end_of(n, word), shifted)
+    return tuple(places) if row == goal else None

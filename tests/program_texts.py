@@ -156,7 +156,8 @@ def some_statement(source, n, names, parts, depth):
     if kind == "for":
         name = source.choice(["i", "j", "k"])
         low, high = plain_sum(source, names, n - 2), plain_sum(source, names, source.choice([n - 2] * 6 + [40]))
-        return "for", name, source.choice(["up", "down"]), low, high, some_block(source, n, [*names, name], parts, depth - 1)
+        turn = source.choice(["up", "down"])
+        return "for", name, turn, low, high, some_block(source, n, [*names, name], parts, depth - 1)
     blocks = [some_block(source, n, names, parts, depth - 1) for _ in range(2 if kind == "beside" else 1)]
     return (kind, *blocks)
 

@@ -44,7 +44,8 @@ class Words(Cases):
         self.answers((), word_of, "cards 7 for i up 99 to -99 { sort 9 }")
         self.answers((2, 1, 0), word_of, "cards 7 for i up -2 to 0 { sort -i }")
         self.answers((0, 0, 1, 2, 1), word_of,
-                     "cards 7 for i up 0 to 1 { for j down i to 0 { sort i - j } } for i up 2 to 2 { sort i sort i - 1 }")
+                     "cards 7 for i up 0 to 1 { for j down i to 0 { sort i - j } } "
+                     "for i up 2 to 2 { sort i sort i - 1 }")
 
     def test_a_name_is_its_own_block_s(self):
         self.answers((1, 3, 4, 1, 2, 3, 4, 2), word_of,
@@ -80,7 +81,8 @@ class Words(Cases):
         self.answers((3, 4, 5, 4, 5, 5), word_of,
                      "cards 7 mirror { back { for t down 2 to 0 { back { for k down 2 - t to 0 { sort k } } } } }")
         self.answers((0, 2, 4, 0), word_of,
-                     "cards 6 for i up 0 to 0 { beside { beside { sort i back { sort i } } { sort 4 } } { sort i + 2 } }")
+                     "cards 6 for i up 0 to 0 { beside { beside { sort i back { sort i } } { sort 4 } } "
+                     "{ sort i + 2 } }")
 
     def test_random_programs(self):
         source = random.Random(7)
@@ -213,8 +215,8 @@ class Begun(Cases):
         text = "cards 3 for i up 1 to 49 { for j up 1 to 99 { back { } } } back { for i up 1 to {0} { back { } } }"
         self.answers((), word_of, text.replace("{0}", "97"))
         self.refuses(TooMuch, word_of, text.replace("{0}", "98"), most=5000)
-        for last in ("sort 0", "sort 9", "for i up 1 to 99 * 99 { }", "back { }", "mirror { }", "beside { } { }", "do a()",
-                     "sort 99 * 99 * 99 * 99"):
+        for last in ("sort 0", "sort 9", "for i up 1 to 99 * 99 { }", "back { }", "mirror { }", "beside { } { }",
+                     "do a()", "sort 99 * 99 * 99 * 99"):
             head = "cards 3 part a() { } "
             full = head + text[8:].replace("{0}", "97")
             self.refuses(TooMuch, word_of, full + last, most=5000)
@@ -234,7 +236,8 @@ class Begun(Cases):
 
     def test_many_empty_rounds(self):
         self.refuses(TooMuch, word_of,
-                     "cards 3 for i up 1 to 99 { for j up 1 to 99 { for k up 1 to 99 { for l up 1 to 99 { } } } }", most=5000)
+                     "cards 3 for i up 1 to 99 { for j up 1 to 99 { for k up 1 to 99 { for l up 1 to 99 { } } } }",
+                     most=5000)
 
 
 class BehindCheck(Cases):

@@ -10,15 +10,15 @@ PACKAGE = pathlib.Path(__file__).resolve().parent.parent / "sturdysort"
 LIBRARY = {"heapq": "heappush heappop heapify heapreplace heappushpop", "math": "gcd lcm isqrt comb perm factorial",
            "itertools": "product combinations permutations chain accumulate pairwise islice zip_longest",
            "collections": "defaultdict"}
-BUILTINS = """len range enumerate zip min max sum abs sorted reversed int str bool list tuple dict set isinstance ord repr any
-all divmod pow iter next map super ValueError TypeError KeyError IndexError LookupError ZeroDivisionError StopIteration
+BUILTINS = """len range enumerate zip min max sum abs sorted reversed int str bool list tuple dict set isinstance ord repr
+any all divmod pow iter next map super ValueError TypeError KeyError IndexError LookupError ZeroDivisionError StopIteration
 NotImplemented""".split()
-METHODS = """append clear copy count endswith extend find get index insert isalnum isalpha isdigit islower isspace isupper items
-join keys ljust lower lstrip partition pop remove replace reverse rfind rjust rpartition rsplit rstrip setdefault split
-splitlines startswith strip update upper values zfill bit_length add discard sort""".split()
-BARRED = """type typing enum Enum Flag Generic Protocol ABC ABCMeta namedtuple NamedTuple TypedDict abstractmethod register mro
-elements open input law version_info with_traceback add_note eval exec globals locals vars dir id help exit quit compile
-""".split()
+METHODS = """append clear copy count endswith extend find get index insert isalnum isalpha isdigit islower isspace isupper
+items join keys ljust lower lstrip partition pop remove replace reverse rfind rjust rpartition rsplit rstrip setdefault
+split splitlines startswith strip update upper values zfill bit_length add discard sort""".split()
+BARRED = """type typing enum Enum Flag Generic Protocol ABC ABCMeta namedtuple NamedTuple TypedDict abstractmethod register
+mro elements open input law version_info with_traceback add_note eval exec globals locals vars dir id help exit quit
+compile""".split()
 NODES = (ast.Global, ast.AsyncFunctionDef, ast.AsyncFor, ast.AsyncWith, ast.Await, ast.Div, ast.AnnAssign)
 
 

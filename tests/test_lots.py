@@ -27,7 +27,8 @@ def tasks():
     source = random.Random(4)
     for _ in range(25):
         word = tuple([source.randrange(3) for _ in range(8)])
-        found += [(4, word, goal) for goal in source.sample(all_rows(4), 2) + [(0, 1, 2, 3), search_run((3, 2, 1, 0), word)]]
+        goals = source.sample(all_rows(4), 2) + [(0, 1, 2, 3), search_run((3, 2, 1, 0), word)]
+        found += [(4, word, goal) for goal in goals]
     return found
 
 

@@ -9,6 +9,7 @@ from helpers import (
     search_run, search_shortest,
 )
 from sturdysort.errors import BadCards, BadGoal, BadRow, BadWord, TooMany
+from sturdysort.lots import count_lots, lot_at
 from sturdysort.words import all_words, are_alike, count_words, end, lacking, least_word, scattered, sorts_all
 
 WORDS = [(1, word) for word in all_deed_words(1, 2)] + [(2, word) for word in all_deed_words(2, 3)] + \
@@ -144,6 +145,19 @@ class Scattered(Cases):
             word = tuple([source.randrange(3) for _ in range(9)])
             for goal in all_rows(4):
                 self.assertEqual(scattered(4, word, goal), meant_scattered(4, word, goal, len(shortest[goal][0])))
+
+    def test_it_is_what_the_first_greatest_lot_leaves(self):
+        source = random.Random(9)
+        for _ in range(60):
+            n = source.randrange(3, 8)
+            word = tuple([source.randrange(n - 1) for _ in range(40)])
+            for goal in (tuple(range(n)), search_run(turned(n), word), search_run(turned(n), word[::3])):
+                places = scattered(n, word, goal)
+                if places is None:
+                    self.assertEqual(count_lots(n, word, goal), 0)
+                else:
+                    failing = tuple([place for place in range(40) if place not in places])
+                    self.assertEqual(lot_at(n, word, goal, 0), failing)
 
     def test_long_words(self):
         word = (5,) * 100 + (0, 1, 2, 3, 4, 5) * 16
