@@ -33,7 +33,7 @@ def exchange(n, word, goal, lot, place):
     check_greatest(n, word, goal, lot)
     if not is_integer(place) or place not in lot:
         raise BadPlace()
-    partner = partners_of(n, word, lot)[place]
+    partner = partners_of(n, word, lot).get(place)
     if partner is None:
         return None
     return exchanged(lot, place, partner), partner
@@ -45,10 +45,10 @@ def exchanged(lot, place, partner):
 
 
 def partners_of(n, word, lot):
-    """The dict that tells for each place of a greatest lot its partner, None if it has none."""
+    """The dict that tells the partner for each place of a greatest lot that has one."""
     pairs = meetings(n, word, lot)
     passes = {unordered(pair): place for place, pair in enumerate(pairs) if place not in lot}
-    return {place: passes.get(unordered(pairs[place])) for place in lot}
+    return {place: passes[unordered(pairs[place])] for place in lot if unordered(pairs[place]) in passes}
 
 
 def unordered(pair):
@@ -58,18 +58,21 @@ def unordered(pair):
 
 def rises(n, word, goal, lot):
     """The ascending tuple of the places of a greatest lot whose partner is later."""
-    check_task(n, word, goal)
-    check_greatest(n, word, goal, lot)
-    partners = partners_of(n, word, lot)
-    return tuple([place for place in lot if partners[place] is not None and partners[place] > place])
+    partners = partners_of_task(n, word, goal, lot)
+    return tuple([place for place, partner in partners.items() if partner > place])
 
 
 def falls(n, word, goal, lot):
     """The ascending tuple of the places of a greatest lot whose partner is earlier."""
+    partners = partners_of_task(n, word, goal, lot)
+    return tuple([place for place, partner in partners.items() if partner < place])
+
+
+def partners_of_task(n, word, goal, lot):
+    """The partners of a greatest lot's places, for values that are not checked yet."""
     check_task(n, word, goal)
     check_greatest(n, word, goal, lot)
-    partners = partners_of(n, word, lot)
-    return tuple([place for place in lot if partners[place] is not None and partners[place] < place])
+    return partners_of(n, word, lot)
 
 
 def least_steps(n, word, goal, lot, other):
@@ -95,12 +98,12 @@ def way_of_lots(n, word, goal, lot, other):
 
 def lots_near(n, word, lot):
     """The list of the lots to which exchanges of a greatest lot lead."""
-    partners = partners_of(n, word, lot)
-    return [exchanged(lot, place, partners[place]) for place in lot if partners[place] is not None]
+    return [exchanged(lot, place, partner) for place, partner in partners_of(n, word, lot).items()]
 
 
 def steps_to_lot(n, word, goal_lot):
-    """For each greatest lot how few exchanges lead from it to one of them: exchanges can be taken back."""
+    """For each greatest lot how few exchanges lead from it to one of them."""
+    # An exchange is taken back by another one, so the steps are counted from where they shall lead.
     steps = {goal_lot: 0}
     reached = [goal_lot]
     while reached:
