@@ -38,7 +38,7 @@ class Run:
                 self.words.append(())
             elif kind == "statement":
                 self.begin_statement(what, names)
-            elif kind == "round":
+            elif kind == "block":
                 self.plan_block(what, names)
             elif kind == "put":
                 self.put()
@@ -79,7 +79,7 @@ class Run:
         elif key == "do":
             self.plan_call(statement, names)
         else:
-            tasks = [("round", block, names) for block in statement[1:]]
+            tasks = [("block", block, names) for block in statement[1:]]
             self.plan([*tasks, (key, None, None)])
 
     def deed(self, tree, names):
@@ -102,7 +102,7 @@ class Run:
         if block:
             # The rounds of an empty block begin no statement, so nothing would bound them.
             for value in values:
-                tasks.append(("round", block, {**names, name: value}))
+                tasks.append(("block", block, {**names, name: value}))
                 tasks.append(("put", None, None))
         self.plan(tasks)
 
