@@ -4,7 +4,7 @@ What is left of the word where a greatest lot fails is a shortest word that lead
 to the goal. So a row met on the way is kept only if the rest of the word can lead on to the goal.
 """
 
-from sturdysort.moves import behind, is_out_of_order, left_of, length_to, swapped, turned_row
+from sturdysort.moves import behind, is_out_of_order, left_of, length_to, steps_to, swapped, turned_row
 
 
 def tables_of(n, word, goal):
@@ -107,6 +107,21 @@ def reached_behind(reached, deed, table):
             if later in table:
                 found[later] = found.get(later, 0) + ways
     return found
+
+
+def least_places(word, goal, lot):
+    """The least tuple of places, the lot failing, whose deeds are a shortest word from the turned row to the goal.
+
+    None if there is none.
+    """
+    row = turned_row(len(goal))
+    places = []
+    for place, deed in enumerate(word):
+        # No need to look ahead: if a later deed can begin the way that is left, so can this one.
+        if place not in lot and deed in steps_to(row, goal):
+            places.append(place)
+            row = swapped(row, deed)
+    return tuple(places) if row == goal else None
 
 
 def is_greatest(n, word, goal, lot):

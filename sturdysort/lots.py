@@ -3,7 +3,7 @@
 from sturdysort.choices import counts_of_working, is_greatest, lot_with_number, lots_in_order, number_of_lot
 from sturdysort.choices import tables_of, total
 from sturdysort.errors import BadNumber, NotGreatest, TooMany
-from sturdysort.moves import end_of, is_as_sorted, left_of
+from sturdysort.moves import left_of, reaches
 from sturdysort.values import check_lot, check_task, is_from_to
 
 MOST_LOTS = 3000
@@ -13,7 +13,7 @@ def is_harmless(n, word, goal, lot):
     """Whether what is left of the word, the lot failing, reaches the goal."""
     check_task(n, word, goal)
     check_lot(word, lot)
-    return is_as_sorted(end_of(n, left_of(word, lot)), goal)
+    return reaches(left_of(word, lot), goal)
 
 
 def count_lots(n, word, goal):
@@ -28,11 +28,11 @@ def greatest_lots(n, word, goal):
     return tuple(all_lots(n, word, goal))
 
 
-def all_lots(n, word, goal):
+def all_lots(n, word, goal, most=MOST_LOTS):
     """The list of the greatest lots in their order, for values that are checked already."""
     tables = tables_of(n, word, goal)
-    if total(n, tables) > MOST_LOTS:
-        raise TooMany(MOST_LOTS)
+    if total(n, tables) > most:
+        raise TooMany(most)
     return lots_in_order(n, word, tables)
 
 

@@ -34,6 +34,11 @@ def left_of(word, lot):
     return tuple([deed for place, deed in enumerate(word) if place not in lot])
 
 
+def outside(word, places):
+    """The ascending tuple of the word's other places."""
+    return tuple([place for place in range(len(word)) if place not in places])
+
+
 def end_of(n, word):
     """The turned row behind the word."""
     return behind(turned_row(n), word)
@@ -75,3 +80,8 @@ def counts_ahead(row):
 def is_as_sorted(row, other):
     """Whether the row is no less sorted than the other one."""
     return all([here >= there for here, there in zip(counts_ahead(row), counts_ahead(other))])
+
+
+def reaches(word, goal):
+    """Whether the word's end is no less sorted than the goal."""
+    return is_as_sorted(end_of(len(goal), word), goal)

@@ -58,21 +58,21 @@ def unordered(pair):
 
 def rises(n, word, goal, lot):
     """The ascending tuple of the places of a greatest lot whose partner is later."""
-    partners = partners_of_task(n, word, goal, lot)
-    return tuple([place for place, partner in partners.items() if partner > place])
+    check_task(n, word, goal)
+    check_greatest(n, word, goal, lot)
+    return rising_places(n, word, lot)
+
+
+def rising_places(n, word, lot):
+    """The rises of a greatest lot that is checked already."""
+    return tuple([place for place, partner in partners_of(n, word, lot).items() if partner > place])
 
 
 def falls(n, word, goal, lot):
     """The ascending tuple of the places of a greatest lot whose partner is earlier."""
-    partners = partners_of_task(n, word, goal, lot)
-    return tuple([place for place, partner in partners.items() if partner < place])
-
-
-def partners_of_task(n, word, goal, lot):
-    """The partners of a greatest lot's places, for values that are not checked yet."""
     check_task(n, word, goal)
     check_greatest(n, word, goal, lot)
-    return partners_of(n, word, lot)
+    return tuple([place for place, partner in partners_of(n, word, lot).items() if partner < place])
 
 
 def least_steps(n, word, goal, lot, other):

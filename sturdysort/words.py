@@ -1,5 +1,6 @@
 """What words do to every row: their ends, and the shortest words that do the same."""
 
+from sturdysort.choices import least_places
 from sturdysort.errors import TooMany
 from sturdysort.moves import end_of, is_out_of_order, length_to, sorted_row, steps_to, swapped, turned_row
 from sturdysort.rows import way
@@ -71,11 +72,4 @@ def scattered(n, word, goal):
     """The least tuple of places whose deeds are a shortest word that leads the turned row to the goal."""
     check_cards_and_word(n, word)
     check_goal(n, goal)
-    row = turned_row(n)
-    places = []
-    for place, deed in enumerate(word):
-        # No need to look ahead: if a later deed can begin the way that is left, so can this one.
-        if deed in steps_to(row, goal):
-            places.append(place)
-            row = swapped(row, deed)
-    return tuple(places) if row == goal else None
+    return least_places(word, goal, ())

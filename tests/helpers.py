@@ -1,8 +1,12 @@
 """What the tests share: wrong values of every kind, and the document's meanings by plain search."""
 
 import copy
+import random
 import unittest
+from fractions import Fraction
 from itertools import combinations, permutations, product
+
+from sturdysort.errors import BadCards, BadGoal, BadWord, TooLong
 
 
 def nested(kind, depth):
@@ -30,6 +34,23 @@ WRONG_WORDS_OF_3 = ODD + [0, 2, (2,), (0, 1, 2), (0, -1), (0, 1, True), [0, 1], 
 WRONG_LOTS_OF_5 = ODD + [0, 2, (5,), (0, 5), (1, 0), (0, 0), (2, 2), (0, 1, 1), (4, 3), (3, -1), (0, 1, True), [0, 1],
                          "01", {0: 1}, (0, 1, 2, 3, 4, 5), (0, 2, 1)]
 WRONG_INTEGERS = ODD + [(), (0,), (1, 2), "1", [1], {1: 1}]
+HALF = (1, 2)
+WRONG_SHARES = ODD + [
+    (), (0,), (1,), (0, 0), (1, 0), (0, 2), (2, 2), (2, 4), (3, 6), (-1, 2), (1, -2), (-1, -2), (0, -1), (2, 1), (3, 2),
+    (1, 10 ** 6 + 1), (0, 10 ** 6), (10 ** 6, 10 ** 6), (10 ** 6 + 1, 10 ** 6 + 1), (10 ** 6, 10 ** 6 + 1),
+    (1, 10 ** 40), (True, 1), (False, 1), (0, True), (1, True), (1, 2, 3), [1, 2], "12", {1: 2}, ((1, 2),), (None, 2),
+    (1, None), ("1", 2), ((1,), 2), (1, (2,)), 0, 1,
+]
+# Wrong for words of 5 deeds.
+WRONG_CHANCES_OF_5 = ODD + [(), (HALF,), (HALF,) * 4, (HALF,) * 6, [HALF] * 5, {HALF: HALF}, (1, 2), (0,) * 5, "11111",
+                            ((0, 1),) * 4, 0] + \
+    [(HALF,) * at + (share,) + (HALF,) * (4 - at) for at in (0, 2, 4) for share in WRONG_SHARES]
+
+# Words with their numbers of cards that sort every row, with exactly so many greatest lots.
+WORD_OF_500 = (3, (0,) * 5 + (1,) * 10 + (0,) * 10)
+WORD_OF_501 = (3, (0,) * 3 + (1,) * 3 + (0,) * 3 + (1,) * 5 + (0,) * 11)
+WORD_OF_3000 = (5, (2, 2, 0, 0, 1, 2, 0, 2, 2, 0, 1, 3, 2, 3, 2, 2, 2, 1, 1, 3, 0, 0, 1, 0))
+WORD_OF_3001 = (4, (0, 1, 0, 1, 0, 1, 2, 0, 0, 1, 1, 0, 2, 1, 0, 1, 0, 2, 1, 2, 2, 2, 2, 0))
 
 
 def exactly(value):
@@ -63,6 +84,15 @@ class Cases(unittest.TestCase):
         """The function raises the error for each of the values at one of its parameters."""
         for value in values:
             self.refuses(error, function, *args[:at], value, *args[at + 1:])
+
+    def refuses_wrong_tasks(self, function, args):
+        """Right arguments (3, a word, a goal, ..) of a function are refused with a wrong one of the first three."""
+        self.refuses_each(BadCards, function, args, 0, WRONG_CARDS)
+        self.refuses_each(BadWord, function, args, 1, WRONG_WORDS_OF_3)
+        self.refuses_each(BadGoal, function, args, 2, WRONG_GOALS_OF_3)
+        self.refuses(TooLong, function, 3, (0,) * 41, *args[2:], most=40)
+        self.refuses(TooLong, function, 3, (0, 1) * 100, *args[2:], most=40)
+        self.refuses(BadWord, function, 3, (0,) * 201, *args[2:])
 
     def refuses_in_order(self, function, *choices):
         """Of several wrong arguments the first one's error is raised.
@@ -143,6 +173,45 @@ def search_greatest(n, word, goal):
     sets = [set(lot) for lot in harmless]
     greatest = [lot for lot, own in zip(harmless, sets) if not any(own < other for other in sets)]
     return sorted(greatest, key=lambda lot: [place in lot for place in range(len(word))])
+
+
+def turned_row(n):
+    """The row n - 1, .., 1, 0."""
+    return tuple(range(n))[::-1]
+
+
+def share_of(number):
+    """A fraction as a share."""
+    return number.numerator, number.denominator
+
+
+def search_tasks(seed):
+    """Words of up to nine deeds and goals, to be searched through with all their lots."""
+    found = []
+    for n, longest in ((1, 0), (2, 4), (3, 4), (4, 2)):
+        found += [(n, word, goal) for word in all_deed_words(n, longest) for goal in all_rows(n)]
+    source = random.Random(seed)
+    for n, length in ((2, 9), (3, 8), (3, 9), (4, 8), (4, 9), (5, 9)) * 3:
+        word = tuple([source.randrange(n - 1) for _ in range(length)])
+        goals = [tuple(range(n)), search_run(turned_row(n), word), search_run(turned_row(n), word[::2])]
+        found += [(n, word, goal) for goal in goals + [source.choice(all_rows(n))]]
+    found += [(3, (0, 1, 0, 1, 0), (0, 1, 2)), (4, (0, 1, 2, 0, 1, 2, 0, 1, 0), (0, 1, 2, 3))]
+    return found
+
+
+def some_chances(source, length):
+    """Chances for so many deeds, 0 and 1 among them."""
+    bottoms = [source.choice([1, 1, 2, 3, 7, 999983, 10 ** 6]) for _ in range(length)]
+    return tuple([share_of(Fraction(source.randrange(bottom + 1), bottom)) for bottom in bottoms])
+
+
+def chance_of_lot(chances, lot):
+    """The chance that just the deeds of a lot fail."""
+    found = Fraction(1)
+    for place, chance in enumerate(chances):
+        fails = Fraction(*chance)
+        found *= fails if place in lot else 1 - fails
+    return found
 
 
 def search_meets(n, word, lot):

@@ -56,6 +56,32 @@ EXAMPLES = {
 >>> drawn(3, (0, 1, 0), (1,))
 '2   1   1   2\n  x       x\n1   2   2   1\n      =\n0   0   0   0\n'
 """,
+    "shelling": """
+>>> from sturdysort.shelling import above, f_numbers, fixed, h_numbers, is_sphere, stretch_of
+>>> word, goal = (0, 1, 0, 1, 0), (0, 1, 2)
+>>> [fixed(3, word, goal, (1, 2)), stretch_of(3, word, goal, (1,)), above(3, word, goal, (1,))]
+[(1,), (1, 2), ((1, 2), (0, 1))]
+>>> [h_numbers(3, word, goal), f_numbers(3, word, goal), is_sphere(3, word, goal), h_numbers(3, word, (1, 2, 0))]
+[(1, 3, 1), (1, 5, 5), True, (1, 1, 1, 0, 0)]
+""",
+    "chances": """
+>>> from sturdysort.chances import chance, chance_numbers, least_harms, sturdy, worth
+>>> word, goal = (0, 1, 0, 1, 0), (0, 1, 2)
+>>> [chance(3, word, goal, ((1, 2),) * 5), chance_numbers(3, word, goal), worth(3, word, goal, ((1, 2),) * 5, 0)]
+[(11, 32), (1, 0, -5, 5, 0, -1), (5, 16)]
+>>> [least_harms(3, word, goal), sturdy(3, word, goal)]
+[((0, 2), (0, 3), (1, 3), (1, 4), (2, 4)), 1]
+""",
+    "bricks": """
+>>> from sturdysort.bricks import bricks, goes_down, is_ringless, least_worth, lot_for, orders_of, touches
+>>> word = (0, 1, 0, 1, 0)
+>>> [bricks(3, word, (0, 1)), bricks(3, word, (3, 4)), touches(3, word, (0, 1)), is_ringless(3, word, (0, 1))]
+[(0, 2, 2), (2, 2, 0), ((1, 0), (2, 1)), True]
+>>> [least_worth(3, word, (1, 1, 2)), goes_down(3, word, (1, 1, 2), (0, 1)), lot_for(3, word, (0, 1, 2))]
+[(4, ((3, 4), (2, 3))), ((0, 1), (1, 2), (2, 3)), (3, 4)]
+>>> orders_of(3, word, (3, 4))
+((0, 1, 2),)
+""",
 }
 
 

@@ -17,6 +17,13 @@ FUNCTIONS = {
     "strings": ["meets(n, word, lot)", "exchange(n, word, goal, lot, place)", "rises(n, word, goal, lot)",
                 "falls(n, word, goal, lot)", "least_steps(n, word, goal, lot, other)",
                 "way_of_lots(n, word, goal, lot, other)", "drawn(n, word, lot)"],
+    "shelling": ["fixed(n, word, goal, lot)", "stretch_of(n, word, goal, lot)", "above(n, word, goal, lot)",
+                 "h_numbers(n, word, goal)", "f_numbers(n, word, goal)", "is_sphere(n, word, goal)"],
+    "chances": ["chance(n, word, goal, chances)", "worth(n, word, goal, chances, place)",
+                "chance_numbers(n, word, goal)", "least_harms(n, word, goal)", "sturdy(n, word, goal)"],
+    "bricks": ["bricks(n, word, lot)", "least_worth(n, word, prices)", "goes_down(n, word, prices, lot)",
+               "lot_for(n, word, order)", "touches(n, word, lot)", "is_ringless(n, word, lot)",
+               "orders_of(n, word, lot)"],
 }
 
 
