@@ -1,15 +1,12 @@
 """The chance that the deeds that fail do no harm, and the least lots that harm."""
 
-from sturdysort.errors import BadPlace
 from sturdysort.lots import all_lots
 from sturdysort.moves import length_to
-from sturdysort.shares import check_chances, common_bottom, lowest
+from sturdysort.shares import NEVER, SURELY, check_chances, common_bottom, lowest
 from sturdysort.shelling import h_numbers, stretches
-from sturdysort.values import check_task, is_from_to
+from sturdysort.values import check_place, check_task
 
 MOST_LOTS_FOR_HARMS = 500
-NEVER = (0, 1)
-SURELY = (1, 1)
 
 
 def chance(n, word, goal, chances):
@@ -62,8 +59,7 @@ def worth(n, word, goal, chances, place):
     """The chance if the deed at the place surely works, less that if it surely fails."""
     check_task(n, word, goal)
     check_chances(word, chances)
-    if not is_from_to(place, 0, len(word) - 1):
-        raise BadPlace()
+    check_place(place, len(word) - 1)
     pairs = all_stretches(n, word, goal)
     working = (*chances[:place], NEVER, *chances[place + 1:])
     failing = (*chances[:place], SURELY, *chances[place + 1:])

@@ -4,7 +4,7 @@ What is left of the word where a greatest lot fails is a shortest word that lead
 to the goal. So a row met on the way is kept only if the rest of the word can lead on to the goal.
 """
 
-from sturdysort.moves import behind, is_out_of_order, left_of, length_to, steps_to, swapped, turned_row
+from sturdysort.moves import behind, is_out_of_order, left_of, length_to, places_of, steps_to, swapped, turned_row
 
 
 def tables_of(n, word, goal):
@@ -122,6 +122,22 @@ def least_places(word, goal, lot):
             places.append(place)
             row = swapped(row, deed)
     return tuple(places) if row == goal else None
+
+
+def least_cost(word, goal, costs):
+    """The least sum of the deeds' costs for a shortest word, scattered in the word, from the turned row to the goal.
+
+    None if there is none.
+    """
+    places = places_of(goal)
+    sums = {turned_row(len(goal)): 0}
+    for deed, cost in zip(word, costs):
+        for row, spent in list(sums.items()):
+            # Cards past one another never change back, so only those that must pass do.
+            if places[row[deed]] > places[row[deed + 1]]:
+                later = swapped(row, deed)
+                sums[later] = min(spent + cost, sums.get(later, spent + cost))
+    return sums.get(goal)
 
 
 def is_greatest(n, word, goal, lot):

@@ -71,10 +71,15 @@ def length_to(goal):
     return n * (n - 1) // 2 - len(pairs_out(goal))
 
 
+def count_less(row, i, v):
+    """How many of the first i cards are less than v."""
+    return sum([1 for card in row[:i] if card < v])
+
+
 def counts_ahead(row):
     """The list, for i and v from 1 on, of how many of the first i cards are less than v."""
     within = range(1, len(row))
-    return [sum([1 for card in row[:i] if card < v]) for i in within for v in within]
+    return [count_less(row, i, v) for i in within for v in within]
 
 
 def is_as_sorted(row, other):

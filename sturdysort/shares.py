@@ -6,6 +6,8 @@ from sturdysort.errors import BadChances
 from sturdysort.values import is_from_to
 
 MOST_PART = 1000000
+NEVER = (0, 1)
+SURELY = (1, 1)
 
 
 def lowest(top, bottom):

@@ -1,6 +1,6 @@
 """Checks of the values that are handed in."""
 
-from sturdysort.errors import BadCards, BadGoal, BadLot, BadRow, BadWord, TooLong
+from sturdysort.errors import BadCards, BadGoal, BadLot, BadPlace, BadRow, BadWord, TooLong
 
 MOST_CARDS = 7
 MOST_DEEDS = 200
@@ -73,6 +73,12 @@ def check_lot(word, lot):
     """Raises BadLot if the value is not a lot of the word."""
     if not is_lot(lot, word):
         raise BadLot()
+
+
+def check_place(place, most):
+    """Raises BadPlace if the value is not a place from 0 to the last one."""
+    if not is_from_to(place, 0, most):
+        raise BadPlace()
 
 
 def check_goal(n, goal):

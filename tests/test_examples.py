@@ -82,6 +82,35 @@ EXAMPLES = {
 >>> orders_of(3, word, (3, 4))
 ((0, 1, 2),)
 """,
+    "polygons": """
+>>> from sturdysort.polygons import bubble, count_cuttings, diagonal, flip, is_cutting, lot_of, pairs_of, place_of
+>>> [bubble(3, 1), diagonal(3, 1, 3), place_of(3, 1, (2, 4)), lot_of(3, 1, ((0, 2), (2, 4))), pairs_of(3, 1, (1, 2))]
+[(0, 1, 0, 1, 0), (1, 4), 4, (0, 4), ((0, 3), (1, 3))]
+>>> [is_cutting(3, 1, ((0, 2), (2, 4))), is_cutting(3, 1, ((0, 2), (1, 3))), count_cuttings(3, 1), count_cuttings(4, 2)]
+[True, False, 5, 84]
+>>> flip(3, 1, ((0, 2), (0, 3)), (0, 3))
+(((0, 2), (2, 4)), (2, 4))
+""",
+    "coming": """
+>>> from sturdysort.coming import chances_of_ends, ends
+>>> [ends((2, 1, 0), (0, 1)), chances_of_ends((1, 0), (0, 0), ((1, 2), (1, 3)))]
+[((1, 0, 2), (1, 2, 0), (2, 0, 1), (2, 1, 0)), {(1, 0): (1, 6), (0, 1): (5, 6)}]
+""",
+    "papers": """
+>>> from sturdysort.papers import judged, paper
+>>> word, goal = (0, 1, 0, 1, 0), (0, 1, 2)
+>>> [paper(3, word, goal, (2,)), paper(3, word, goal, (0, 2)), judged(3, word, goal, (2,), ("fine", (1, 3, 4)))]
+[('fine', (0, 1, 4)), ('harms', 2, 2), False]
+""",
+    "desks": r"""
+>>> from sturdysort.desks import Desk, desk_of
+>>> desk = Desk(3, (0, 1, 0, 1), (0, 1, 2))
+>>> marked = [desk.mark(0, "sure"), desk.put(4, 0), desk.mark(2, "lost")]
+>>> [desk.word(), desk.states(), desk.is_well(), desk.harmed_by(), desk.spare(), desk.chance((1, 2))]
+[(0, 1, 0, 1, 0), ('sure', 'open', 'lost', 'open', 'open'), True, (4,), 1, (3, 8)]
+>>> desk_of(desk.text()).text()
+'cards 3\ngoal 0 1 2\nsure 0\nopen 1\nlost 0\nopen 1\nopen 0\n'
+""",
 }
 
 

@@ -4,6 +4,8 @@ import importlib
 import inspect
 import unittest
 
+from sturdysort.desks import Desk
+
 FUNCTIONS = {
     "rows": ["turned(n)", "in_order(n)", "run(row, word, lot)", "out_pairs(row)", "can_come(row, other)",
              "no_less_sorted(row, other)", "way(row, other)", "stretch(row, other)"],
@@ -24,7 +26,15 @@ FUNCTIONS = {
     "bricks": ["bricks(n, word, lot)", "least_worth(n, word, prices)", "goes_down(n, word, prices, lot)",
                "lot_for(n, word, order)", "touches(n, word, lot)", "is_ringless(n, word, lot)",
                "orders_of(n, word, lot)"],
+    "polygons": ["bubble(n, k)", "diagonal(n, k, place)", "place_of(n, k, pair)", "count_cuttings(n, k)",
+                 "is_cutting(n, k, pairs)", "lot_of(n, k, pairs)", "pairs_of(n, k, lot)", "flip(n, k, pairs, pair)"],
+    "coming": ["ends(row, word)", "chances_of_ends(row, word, chances)"],
+    "papers": ["paper(n, word, goal, lot)", "judged(n, word, goal, lot, paper)"],
+    "desks": ["desk_of(text)"],
 }
+METHODS_OF_DESK = ["put(self, place, deed)", "take(self, place)", "mark(self, place, state)", "undo(self)", "word(self)",
+                   "states(self)", "goal(self)", "is_well(self)", "harmed_by(self)", "spare(self)", "chance(self, q)",
+                   "text(self)"]
 
 
 class Interface(unittest.TestCase):
@@ -35,6 +45,13 @@ class Interface(unittest.TestCase):
                 function = getattr(module, told.split("(")[0])
                 self.assertEqual(f"{function.__name__}{inspect.signature(function)}", told)
                 self.assertEqual(function.__module__, f"sturdysort.{name}")
+
+    def test_desk(self):
+        self.assertEqual(Desk.__module__, "sturdysort.desks")
+        self.assertEqual(str(inspect.signature(Desk)), "(n, word, goal)")
+        for told in METHODS_OF_DESK:
+            name = told.split("(")[0]
+            self.assertEqual(f"{name}{inspect.signature(vars(Desk)[name])}", told)
 
 
 if __name__ == "__main__":

@@ -16,9 +16,10 @@ NotImplemented""".split()
 METHODS = """append clear copy count endswith extend find get index insert isalnum isalpha isdigit islower isspace isupper
 items join keys ljust lower lstrip partition pop remove replace reverse rfind rjust rpartition rsplit rstrip setdefault
 split splitlines startswith strip update upper values zfill bit_length add discard sort""".split()
-BARRED = """type typing enum Enum Flag Generic Protocol ABC ABCMeta namedtuple NamedTuple TypedDict abstractmethod register
-mro elements open input law version_info with_traceback add_note eval exec globals locals vars dir id help exit quit
-compile""".split()
+BARRED_IN_STRINGS = """typing typing_extensions enum Enum IntEnum StrEnum Flag IntFlag Generic Protocol ABC ABCMeta
+namedtuple NamedTuple TypedDict TYPE_CHECKING abstractmethod dataclass overload contextmanager""".split()
+BARRED = BARRED_IN_STRINGS + """type register mro elements open input law version_info with_traceback add_note eval exec
+globals locals vars dir id help exit quit compile""".split()
 NODES = (ast.Global, ast.AsyncFunctionDef, ast.AsyncFor, ast.AsyncWith, ast.Await, ast.Div, ast.AnnAssign)
 
 
@@ -146,7 +147,8 @@ class Words(unittest.TestCase):
             for node in ast.walk(ast.parse(path.read_text())):
                 if isinstance(node, ast.Constant) and isinstance(node.value, str):
                     self.assertNotIn("%", node.value, path)
-                    self.assertNotIn(node.value, BARRED, path)
+                    for word in BARRED_IN_STRINGS:
+                        self.assertNotRegex(node.value, rf"\b{word}\b", path)
 
 
 class Statements(unittest.TestCase):
