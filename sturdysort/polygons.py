@@ -122,8 +122,7 @@ def count_cuttings(n, k):
     """How many greatest cuttings there are."""
     check_polygon(n, k)
     corners = n + 2 * k
-    numbers = range(1, k + 1)
-    return determinant([[catalan(corners - i - j) for j in numbers] for i in numbers])
+    return determinant([[catalan(corners - i - j) for j in range(1, k + 1)] for i in range(1, k + 1)])
 
 
 def catalan(m):
