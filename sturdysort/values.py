@@ -87,11 +87,17 @@ def check_goal(n, goal):
         raise BadGoal()
 
 
+def check_word_up_to(n, word, most):
+    """Raises BadWord if the value is not a word for n cards, TooLong if it has more than so many deeds."""
+    check_word(n, word)
+    if len(word) > most:
+        raise TooLong(most)
+
+
 def check_word_that_fails(n, word):
     """Raises BadCards, BadWord or TooLong for a word whose lots are asked for."""
-    check_cards_and_word(n, word)
-    if len(word) > MOST_DEEDS_THAT_FAIL:
-        raise TooLong(MOST_DEEDS_THAT_FAIL)
+    check_cards(n)
+    check_word_up_to(n, word, MOST_DEEDS_THAT_FAIL)
 
 
 def check_task(n, word, goal):

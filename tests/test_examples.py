@@ -111,6 +111,27 @@ EXAMPLES = {
 >>> desk_of(desk.text()).text()
 'cards 3\ngoal 0 1 2\nsure 0\nopen 1\nlost 0\nopen 1\nopen 0\n'
 """,
+    "changes": """
+>>> from sturdysort.changes import changed, changes_of, count_swapped, first_swapped, is_led, is_swapped, led
+>>> [changes_of(4, (0, 2, 1, 2, 2)), changed(4, (0, 2, 1, 2, 2), ("braid", 1)), is_led(3, (0, 1, 0), (1, 0, 1), (("braid", 0),))]
+[(('braid', 1), ('drop', 3), ('swap', 0)), (0, 1, 2, 1, 2), True]
+>>> [is_led(3, (0, 1, 0, 1), (0, 1, 0), led(3, (0, 1, 0, 1), (0, 1, 0))), is_swapped(4, (0, 2), (2, 0)), count_swapped(4, (2, 0, 1))]
+[True, True, 2]
+>>> first_swapped(4, (2, 0, 1))
+(0, 2, 1)
+""",
+    "quick": """
+>>> from sturdysort.quick import quickest
+>>> quickest(4, (0, 1, 2, 0, 1, 0))
+((0, 2), (1,), (0, 2), (1,))
+""",
+    "lighting": """
+>>> from sturdysort.lighting import jumps, lamps, row_of, run_lamps, unsorted_bounds
+>>> [lamps((2, 0, 1), 1), run_lamps((1, 1, 0), (0, 1, 0), ()), jumps((1, 1, 0), (0, 1, 0), ()), row_of(((1, 0, 1), (1, 0, 0)))]
+[(1, 0, 1), (0, 1, 1), 2, (2, 0, 1)]
+>>> unsorted_bounds(3, (0, 1), ())
+(1,)
+""",
 }
 
 

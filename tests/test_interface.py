@@ -31,6 +31,12 @@ FUNCTIONS = {
     "coming": ["ends(row, word)", "chances_of_ends(row, word, chances)"],
     "papers": ["paper(n, word, goal, lot)", "judged(n, word, goal, lot, paper)"],
     "desks": ["desk_of(text)"],
+    "changes": ["changes_of(n, word)", "changed(n, word, change)", "first_swapped(n, word)",
+                "is_led(n, word, other, changes)", "is_swapped(n, word, other)", "led(n, word, other)",
+                "count_swapped(n, word)"],
+    "quick": ["quickest(n, word)"],
+    "lighting": ["lamps(row, bound)", "run_lamps(lamps, word, lot)", "row_of(many)", "unsorted_bounds(n, word, lot)",
+                 "jumps(lamps, word, lot)"],
 }
 METHODS_OF_DESK = ["put(self, place, deed)", "take(self, place)", "mark(self, place, state)", "undo(self)", "word(self)",
                    "states(self)", "goal(self)", "is_well(self)", "harmed_by(self)", "spare(self)", "chance(self, q)",
