@@ -1,6 +1,6 @@
 """The chance that the deeds that fail do no harm, and the least lots that harm."""
 
-from sturdysort.lots import all_lots
+from sturdysort.lots import all_lots, size_and_lot
 from sturdysort.moves import length_to
 from sturdysort.shares import NEVER, SURELY, check_chances, common_bottom, lowest
 from sturdysort.shelling import h_numbers, stretches
@@ -71,11 +71,6 @@ def least_harms(n, word, goal):
     check_task(n, word, goal)
     lots = [lot_of_mask(word, mask) for mask in masks_of_least_harms(n, word, goal)]
     return tuple(sorted(lots, key=size_and_lot))
-
-
-def size_and_lot(lot):
-    """What tells the order of lots: fewer deeds first, then ascending."""
-    return len(lot), lot
 
 
 def masks_of_least_harms(n, word, goal):

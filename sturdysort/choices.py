@@ -124,20 +124,21 @@ def least_places(word, goal, lot):
     return tuple(places) if row == goal else None
 
 
-def least_cost(word, goal, costs):
-    """The least sum of the deeds' costs for a shortest word, scattered in the word, from the turned row to the goal.
+def cheapest_places(word, goal, costs):
+    """The pair (sum, places) of the places with the least sum of costs, and of these of the least ones.
 
-    None if there is none.
+    Their deeds are a shortest word that leads the turned row to the goal. None if there are no such places.
     """
-    places = places_of(goal)
-    sums = {turned_row(len(goal)): 0}
-    for deed, cost in zip(word, costs):
-        for row, spent in list(sums.items()):
+    aims = places_of(goal)
+    ways = {turned_row(len(goal)): (0, ())}
+    for place, deed in enumerate(word):
+        for row, (spent, places) in list(ways.items()):
             # Cards past one another never change back, so only those that must pass do.
-            if places[row[deed]] > places[row[deed + 1]]:
+            if aims[row[deed]] > aims[row[deed + 1]]:
                 later = swapped(row, deed)
-                sums[later] = min(spent + cost, sums.get(later, spent + cost))
-    return sums.get(goal)
+                way = (spent + costs[place], (*places, place))
+                ways[later] = min(way, ways.get(later, way))
+    return ways.get(goal)
 
 
 def is_greatest(n, word, goal, lot):

@@ -1,7 +1,7 @@
 """Desks: words whose deeds are open, sure or lost, which can be changed and written down."""
 
 from sturdysort.chances import chance_of_no_harm
-from sturdysort.choices import least_cost
+from sturdysort.choices import cheapest_places
 from sturdysort.errors import BadChances, BadDeed, BadState, InvalidDesk, NothingDone, NotText, TooLong
 from sturdysort.moves import left_of, reaches
 from sturdysort.shares import NEVER, SURELY, is_chance
@@ -92,8 +92,8 @@ class Desk:
     def spare(self):
         """How many open deeds may fail at most, all at once, besides the lost ones; -1 if not well."""
         costs = [1 if mark == "open" else 0 for mark in self.marks if mark != "lost"]
-        needed = least_cost(left_of(self.deeds, self.marked("lost")), self.aim, costs)
-        return -1 if needed is None else sum(costs) - needed
+        needed = cheapest_places(left_of(self.deeds, self.marked("lost")), self.aim, costs)
+        return -1 if needed is None else sum(costs) - needed[0]
 
     def chance(self, q):
         """The chance that no harm is done if open deeds fail with the chance q each by itself."""

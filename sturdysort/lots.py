@@ -59,6 +59,11 @@ def check_greatest(n, word, goal, lot):
         raise NotGreatest()
 
 
+def size_and_lot(lot):
+    """What tells the order of lots that differ in size: fewer deeds first, then ascending."""
+    return len(lot), lot
+
+
 def fail_counts(n, word, goal):
     """For each place of the word in how many greatest lots it is."""
     return counts_and_total(n, word, goal)[0]

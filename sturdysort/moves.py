@@ -84,7 +84,12 @@ def counts_ahead(row):
 
 def is_as_sorted(row, other):
     """Whether the row is no less sorted than the other one."""
-    return all([here >= there for here, there in zip(counts_ahead(row), counts_ahead(other))])
+    return are_as_great(counts_ahead(row), counts_ahead(other))
+
+
+def are_as_great(counts, others):
+    """Whether no count is less than that of the others that stands at its place."""
+    return all([here >= there for here, there in zip(counts, others)])
 
 
 def reaches(word, goal):

@@ -16,12 +16,22 @@ def lowest(top, bottom):
     return top // common, bottom // common
 
 
-def is_chance(value):
+def added(share, other):
+    """The sum of two shares."""
+    return lowest(share[0] * other[1] + other[0] * share[1], share[1] * other[1])
+
+
+def multiplied(share, other):
+    """The product of two shares."""
+    return lowest(share[0] * other[0], share[1] * other[1])
+
+
+def is_chance(value, most=MOST_PART):
     """Whether the value is a share from 0 to 1 whose parts are not too great."""
     if not isinstance(value, tuple) or len(value) != 2:
         return False
     top, bottom = value
-    return is_from_to(bottom, 1, MOST_PART) and is_from_to(top, 0, bottom) and lowest(top, bottom) == value
+    return is_from_to(bottom, 1, most) and is_from_to(top, 0, bottom) and lowest(top, bottom) == value
 
 
 def check_chances(word, chances):

@@ -311,7 +311,8 @@ class Led(Cases):
         self.refuses(BadWord, led, 5, (0,), (0,) * 201)
 
     def test_order(self):
-        self.refuses_in_order(led, (3, (0, BadCards), (6, BadCards)), ((0, 1, 0), ((2,), BadWord), ((0,) * 41, TooLong)),
+        words = (0, 1, 0), ((2,), BadWord), ((0,) * 41, TooLong)
+        self.refuses_in_order(led, (3, (0, BadCards), (6, BadCards)), words,
                               ((1, 0, 1), ([1], BadWord), ((1,) * 41, TooLong), ((0,), NotAlike)))
 
 

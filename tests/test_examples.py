@@ -1,4 +1,4 @@
-"""Every example that the document shows, word for word, for the modules that stand."""
+"""Every example that the document shows, word for word."""
 
 import doctest
 import unittest
@@ -131,6 +131,31 @@ EXAMPLES = {
 [(1, 0, 1), (0, 1, 1), 2, (2, 0, 1)]
 >>> unsorted_bounds(3, (0, 1), ())
 (1,)
+""",
+    "faults": """
+>>> from sturdysort.faults import fitting, lots_by_end, parting_row
+>>> lots_by_end(3, (0, 1, 0), 1)
+{(0, 1, 2): ((),), (0, 2, 1): ((0,),), (1, 2, 0): ((1,),), (1, 0, 2): ((2,),)}
+>>> [fitting(3, (0, 1, 0), 1, (((1, 2, 0), (0, 1, 2)),)), parting_row(3, (0, 1, 0), (), (0,))]
+[((), (0,)), (2, 0, 1)]
+""",
+    "bychance": """
+>>> from sturdysort.bychance import behind, expected
+>>> [expected((2, 1, 0), ((1, 2), (1, 2))), behind((1, 0), ((1, 1),), 1)]
+[(5, 1), {(0, 1): (1, 1)}]
+""",
+    "wearing": """
+>>> from sturdysort.wearing import cheapest, strengthened, survival, wear
+>>> word, goal = (0, 1, 0, 1, 0), (0, 1, 2)
+>>> [cheapest(3, word, goal, (5, 1, 1, 1, 1)), survival(3, word, goal, 2), wear(3, word, goal)]
+[(3, (1, 2, 3)), (1, 2), (5, 2)]
+>>> strengthened(3, word, goal, ((1, 2),) * 5, (1, 1, 1, 1, 1), (1, 2))
+(1, (0,))
+""",
+    "mending": """
+>>> from sturdysort.mending import mending, spots
+>>> [mending(3, (0, 1, 0), (0, 1, 2), (0,)), spots(3, (0, 1, 0), (0, 1, 2), (0,)), spots(3, (0, 1, 0), (0, 1, 2), (0, 1))]
+[(1,), ((0, 0), (1, 0), (3, 1)), ()]
 """,
 }
 

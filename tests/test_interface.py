@@ -37,6 +37,11 @@ FUNCTIONS = {
     "quick": ["quickest(n, word)"],
     "lighting": ["lamps(row, bound)", "run_lamps(lamps, word, lot)", "row_of(many)", "unsorted_bounds(n, word, lot)",
                  "jumps(lamps, word, lot)"],
+    "faults": ["lots_by_end(n, word, most)", "fitting(n, word, most, told)", "parting_row(n, word, lot, other)"],
+    "bychance": ["expected(row, draws)", "behind(row, draws, times)"],
+    "wearing": ["cheapest(n, word, goal, costs)", "strengthened(n, word, goal, chances, costs, wanted)",
+                "survival(n, word, goal, many)", "wear(n, word, goal)"],
+    "mending": ["mending(n, word, goal, lot)", "spots(n, word, goal, lot)"],
 }
 METHODS_OF_DESK = ["put(self, place, deed)", "take(self, place)", "mark(self, place, state)", "undo(self)", "word(self)",
                    "states(self)", "goal(self)", "is_well(self)", "harmed_by(self)", "spare(self)", "chance(self, q)",

@@ -5,7 +5,7 @@ import unittest
 from itertools import combinations, permutations, product
 from math import comb
 
-from helpers import Cases, ODD, WRONG_CARDS, WRONG_INTEGERS, all_places, search_greatest
+from helpers import Cases, ODD, WRONG_CARDS, WRONG_INTEGERS, WRONG_TIMES, all_places, search_greatest
 from sturdysort.errors import BadCards, BadLot, BadPairs, BadPlace, BadTimes, NoDiagonal, NotGreatest
 from sturdysort.lots import count_lots, is_harmless, lot_at
 from sturdysort.polygons import bubble, count_cuttings, diagonal, flip, is_cutting, lot_of, pairs_of, place_of
@@ -15,7 +15,6 @@ FUNCTIONS = {
     diagonal: [3, 1, 0], place_of: [3, 1, (0, 2)], is_cutting: [3, 1, ((0, 2),)], lot_of: [3, 1, ((0, 2),)],
     pairs_of: [3, 1, (0,)], count_cuttings: [3, 1], flip: [3, 1, ((0, 2), (0, 3)), (0, 3)],
 }
-WRONG_TIMES = ODD + [4, 5, (), (1,), [1], "1", {1: 1}]
 # None of these stands for a deed of the pentagon.
 WRONG_DIAGONALS = ODD + [
     0, (), (0,), (2,), (0, 0), (0, 1), (0, 4), (1, 2), (3, 4), (2, 5), (0, 5), (3, 5), (-1, 1), (-3, 0), (2, 0), (3, 1),
