@@ -20,9 +20,10 @@ WRONG_DRAWS_OF_2 = ODD + [
     (HALF, [1, 2]), (HALF, None), (HALF, 1), ((2, 4), (1, 2)), ((1, 2), (2, 4)), ((1, 1), (0, 2)), ((0, 3), (1, 1)),
     (HALF, THIRD), (THIRD, THIRD), (NEVER, NEVER), (SURELY, SURELY), (SURELY, HALF), ((-1, 2), (3, 2)),
     ((3, 2), (-1, 2)), ((1, -2), (1, 2)), ((-1, -2), HALF), ((1, 0), HALF), ((0, 0), SURELY), ((True, 1), NEVER),
-    (SURELY, (False, 1)), (SURELY, (0, True)), ((1, True), NEVER), ((1, 2, 3), HALF), ((1,), HALF), ("12", HALF), ((1, "2"), HALF),
-    ((1, 1001), (1000, 1001)), ((1, 10 ** 6), (999999, 10 ** 6)), ((10 ** 40, 1), NEVER), ((HALF, HALF),), {HALF: HALF},
-    ((1, 2.0), HALF), "1122", ((500, 1000), (500, 1000)), ((0, 1001), SURELY), ((1001, 1001), NEVER),
+    (SURELY, (False, 1)), (SURELY, (0, True)), ((1, True), NEVER), ((1, 2, 3), HALF), ((1,), HALF), ("12", HALF),
+    ((1, "2"), HALF), ((1, 1001), (1000, 1001)), ((1, 10 ** 6), (999999, 10 ** 6)), ((10 ** 40, 1), NEVER),
+    ((HALF, HALF),), {HALF: HALF}, ((1, 2.0), HALF), "1122", ((500, 1000), (500, 1000)), ((0, 1001), SURELY),
+    ((1001, 1001), NEVER),
 ]
 
 
